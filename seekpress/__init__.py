@@ -1,0 +1,1 @@
+"""Seekpress: packed texts that are sought, changed and mended."""
