@@ -28,3 +28,15 @@ class Rule:
 
     def told(self):
         return self.four
+
+    def part(self):
+        return self.four[0]
+
+    def least(self):
+        return self.four[1]
+
+    def most(self):
+        return self.four[2]
+
+    def kids(self):
+        return self.four[3]

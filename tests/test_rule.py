@@ -90,6 +90,10 @@ class RuleTest(unittest.TestCase):
         self.refused((5, 6, 7, 9))
         self.assertEqual(one.told(), (4, 3, 12, 4))
 
+    def test_each_number_is_told_by_itself(self):
+        rule = Rule(5, 6, 7, 8)
+        self.assertEqual((rule.part(), rule.least(), rule.most(), rule.kids()), rule.told())
+
     def test_the_arguments_have_their_names(self):
         self.assertEqual(Rule(part=5, least=6, most=7, kids=8).told(), (5, 6, 7, 8))
 
