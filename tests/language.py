@@ -24,6 +24,8 @@ STATEMENTS = (
     ast.Assign, ast.AugAssign, ast.If, ast.While, ast.For, ast.Return, ast.Break, ast.Continue, ast.Pass, ast.Raise,
     ast.Try, ast.Expr, ast.FunctionDef, ast.ClassDef, ast.ImportFrom,
 )
+WALKED = set("zip enumerate reversed range items keys values".split())
+WALKERS = set("list tuple dict sorted sum any all enumerate zip".split())
 NO_EXPRESSIONS = (
     ast.SetComp, ast.DictComp, ast.GeneratorExp, ast.NamedExpr, ast.Starred, ast.Yield, ast.YieldFrom, ast.Await,
     ast.Div, ast.MatMult,
@@ -33,10 +35,11 @@ NO_EXPRESSIONS = (
 def faults_of(name, source):
     tree = ast.parse(source)
     faults = sign_faults(source) + top_faults(tree, name)
+    above = {below: node for node in ast.walk(tree) for below in ast.iter_child_nodes(node)}
     for node in ast.walk(tree):
         row = getattr(node, "lineno", 0)
-        faults += [(rule, row) for rule in node_faults(node)]
-    return sorted(set(faults))
+        faults += [(rule, row) for rule in node_faults(node) + place_faults(node, above)]
+    return sorted(set(faults + shadow_faults(tree)))
 
 
 def sign_faults(source):
@@ -151,6 +154,56 @@ def expression_faults(node):
     if isinstance(node, ast.ExceptHandler):
         return ["L19"] if node.type is None or ast.unparse(node.type) in ("Exception", "TypeError") else []
     return []
+
+
+def called_name(node):
+    if not isinstance(node, ast.Call):
+        return None
+    return node.func.id if isinstance(node.func, ast.Name) else getattr(node.func, "attr", None)
+
+
+def place_faults(node, above):
+    name = called_name(node)
+    if name in WALKED and not is_walked(node, above[node]):
+        return ["L23"]
+    if name == "set" and not is_set_asked(node, above):
+        return ["L24"]
+    if isinstance(node, ast.Attribute) and isinstance(node.ctx, ast.Store) and not isinstance(node.value, ast.Name):
+        return ["L18"]
+    return []
+
+
+def is_walked(node, parent):
+    if isinstance(parent, (ast.For, ast.comprehension)):
+        return parent.iter is node
+    walker = called_name(parent)
+    if walker in ("min", "max"):
+        return parent.args == [node]
+    if walker == "join":
+        return isinstance(parent.func.value, ast.Constant)
+    return walker in WALKERS and parent.args[0] is node
+
+
+def is_set_asked(node, above):
+    parent = above[node]
+    while isinstance(parent, ast.BinOp):
+        parent = above[parent]
+    if isinstance(parent, ast.Compare):
+        return all(isinstance(op, (ast.In, ast.NotIn, ast.Eq, ast.NotEq)) for op in parent.ops)
+    return called_name(parent) in ("sorted", "len") and not parent.keywords
+
+
+# Parameters and locals that are called like a class or an import of their file.
+def shadow_faults(tree):
+    tops = {alias.name for node in tree.body if isinstance(node, ast.ImportFrom) for alias in node.names}
+    tops |= {node.name for node in tree.body if isinstance(node, ast.ClassDef)}
+    faults = []
+    for node in ast.walk(tree):
+        if isinstance(node, ast.arg) and node.arg in tops:
+            faults.append(("L15", node.lineno))
+        if isinstance(node, ast.Name) and isinstance(node.ctx, ast.Store) and node.id in tops:
+            faults.append(("L15", node.lineno))
+    return faults
 
 
 def methods_and_values(sources):

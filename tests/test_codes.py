@@ -3,6 +3,7 @@ import random
 import unittest
 from fractions import Fraction
 
+import slowly
 from seekpress.codes import codes_of
 from seekpress.errors import NoCode
 from seekpress.lengths import lengths_of
@@ -28,18 +29,6 @@ def some_lengths():
         found.append(lengths_of([(symbol, source.randrange(1, top + 1)) for symbol in symbols]))
         found.append([(symbol, source.randrange(8, 61)) for symbol in symbols])
     return found + [numbered(list(range(1, 61)) + [60]), numbered([60] * 6000)]
-
-
-# In the order of lengths and then symbols, by written noughts and ones.
-def codes_by_words(lengths):
-    codes, ahead = {}, None
-    for length, symbol in sorted((length, symbol) for symbol, length in lengths):
-        if ahead is None:
-            ahead = "0" * length
-        else:
-            ahead = bin(int(ahead, 2) + 1)[2:].rjust(len(ahead), "0") + "0" * (length - len(ahead))
-        codes[symbol] = [int(sign) for sign in ahead]
-    return [(symbol, codes[symbol]) for symbol in sorted(codes)]
 
 
 class CodesTest(unittest.TestCase):
@@ -81,13 +70,13 @@ class CodesTest(unittest.TestCase):
     def test_against_the_words(self):
         for lengths in some_lengths():
             with self.subTest(lengths=lengths[:9]):
-                self.assertEqual(codes_of(lengths), codes_by_words(lengths))
+                self.assertEqual(codes_of(lengths), slowly.codes(lengths))
 
     def test_all_small_lengths_are_told_or_refused(self):
         for many in range(1, 6):
             for lengths in itertools.product((1, 2, 3, 4), repeat=many):
                 if fits(lengths):
-                    self.assertEqual(codes_of(numbered(lengths)), codes_by_words(numbered(lengths)))
+                    self.assertEqual(codes_of(numbered(lengths)), slowly.codes(numbered(lengths)))
                 else:
                     self.refused(numbered(lengths))
 

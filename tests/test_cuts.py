@@ -1,6 +1,7 @@
 import random
 import unittest
 
+import slowly
 from making import some_text
 from seekpress.cuts import blocks_of, cuts_of, groups_of, is_closed, sign_of
 from seekpress.rule import Rule
@@ -17,40 +18,6 @@ def some_texts():
     texts = [some_text(many, below, 0) for many in range(60) for below in (2, 256)]
     texts += [some_text(200, below, seed) for below in (1, 2, 3, 5, 256) for seed in range(4)]
     return texts + [[255] * 200, list(range(256)), [0, 255] * 100]
-
-
-def sign_by_places(text):
-    padded = [0, 0, 0] + text
-    return padded[-3] + 5 * padded[-2] + 11 * padded[-1]
-
-
-def closed_by_words(text, four):
-    part, least, most, kids = four
-    by_sign = len(text) >= least and sign_by_places(text) // part * part == sign_by_places(text)
-    return by_sign or len(text) == most
-
-
-def blocks_by_words(text, four):
-    blocks, rest = [], text
-    while rest:
-        end = next((end for end in range(1, len(rest)) if closed_by_words(rest[:end], four)), len(rest))
-        blocks.append(rest[:end])
-        rest = rest[end:]
-    return blocks
-
-
-def groups_by_words(signs, level, four):
-    part, least, most, kids = four
-    groups, group = [], 0
-    for sign in signs:
-        group += 1
-        number = sign // part
-        for turn in range(level - 1):
-            number = number // 2
-        if group == kids or group > 1 and number in range(0, number + 1, 2):
-            groups.append(group)
-            group = 0
-    return groups + [group] if group else groups
 
 
 class SignTest(unittest.TestCase):
@@ -79,7 +46,7 @@ class SignTest(unittest.TestCase):
 
     def test_some_texts(self):
         for text in some_texts():
-            self.assertEqual(sign_of(text), sign_by_places(text))
+            self.assertEqual(sign_of(text), slowly.sign(text))
 
     def test_the_list_handed_in_stays(self):
         text = [3, 1, 2, 5]
@@ -135,7 +102,7 @@ class IsClosedTest(unittest.TestCase):
     def test_some_texts_by_some_rules(self):
         for four in RULES:
             for text in some_texts():
-                self.assertIs(is_closed(text, Rule(*four)), closed_by_words(text, four))
+                self.assertIs(is_closed(text, Rule(*four)), slowly.closed(text, four))
 
     def test_the_list_handed_in_stays_and_the_arguments_have_their_names(self):
         text = [3, 1, 2]
@@ -167,7 +134,7 @@ class BlocksTest(unittest.TestCase):
     def test_blocks_against_the_words(self):
         for four in RULES:
             for text in some_texts():
-                self.assertEqual(blocks_of(text, Rule(*four)), blocks_by_words(text, four))
+                self.assertEqual(blocks_of(text, Rule(*four)), slowly.blocks(text, four))
 
     def test_joined_they_are_the_text_and_each_is_closed_at_once(self):
         for four in RULES:
@@ -175,7 +142,7 @@ class BlocksTest(unittest.TestCase):
                 blocks = blocks_of(text, Rule(*four))
                 self.assertEqual([mark for block in blocks for mark in block], text)
                 for at, block in enumerate(blocks):
-                    closed = [closed_by_words(block[:end], four) for end in range(len(block) + 1)]
+                    closed = [slowly.closed(block[:end], four) for end in range(len(block) + 1)]
                     self.assertNotIn(True, closed[:-1])
                     self.assertTrue(closed[-1] or at == len(blocks) - 1)
                     self.assertIn(len(block), range(1, four[2] + 1))
@@ -184,9 +151,9 @@ class BlocksTest(unittest.TestCase):
         for four in RULES:
             for text in some_texts():
                 wanted, place = [0], 0
-                for block in blocks_by_words(text, four):
+                for block in slowly.blocks(text, four):
                     place += len(block)
-                    wanted += [place] if closed_by_words(block, four) else []
+                    wanted += [place] if slowly.closed(block, four) else []
                 cuts = cuts_of(text, Rule(*four))
                 self.assertEqual(cuts, wanted)
                 self.assertEqual(cuts, sorted(set(cuts)))
@@ -197,7 +164,7 @@ class BlocksTest(unittest.TestCase):
                 if text:
                     last = blocks_of(text, Rule(*four))[-1]
                     ends = cuts_of(text, Rule(*four))[-1] == len(text)
-                    self.assertEqual(ends, closed_by_words(last, four))
+                    self.assertEqual(ends, slowly.closed(last, four))
 
     def test_behind_a_cut_nothing_hangs_on_what_stands_ahead(self):
         for four in RULES:
@@ -233,7 +200,7 @@ class BlocksTest(unittest.TestCase):
     def test_texts_of_six_thousand_marks(self):
         for below in (2, 256):
             text = some_text(6000, below, 5)
-            self.assertEqual(blocks_of(text, Rule(64, 3, 48, 8)), blocks_by_words(text, (64, 3, 48, 8)))
+            self.assertEqual(blocks_of(text, Rule(64, 3, 48, 8)), slowly.blocks(text, (64, 3, 48, 8)))
 
     def test_the_list_handed_in_stays_and_the_lists_told_are_new(self):
         rule = Rule(4, 3, 12, 4)
@@ -298,7 +265,7 @@ class GroupsTest(unittest.TestCase):
                     signs = [source.randrange(4336) for at in range(many)]
                     with self.subTest(four=four, level=level, many=many):
                         groups = groups_of(signs, level, Rule(*four))
-                        self.assertEqual(groups, groups_by_words(signs, level, four))
+                        self.assertEqual(groups, slowly.groups(signs, level, four))
 
     def test_a_group_of_one_only_at_the_end_and_none_above_kids(self):
         for four in RULES:
@@ -312,7 +279,7 @@ class GroupsTest(unittest.TestCase):
     def test_levels_and_signs_of_forty_figures(self):
         rule = Rule(4, 3, 12, 8)
         self.assertEqual(groups_of([1, 2, 3, FORTY, 4], FORTY, rule), [2, 2, 1])
-        self.assertEqual(groups_of([0, FORTY, FORTY - 4, 0], 1, rule), groups_by_words(
+        self.assertEqual(groups_of([0, FORTY, FORTY - 4, 0], 1, rule), slowly.groups(
             [0, FORTY, FORTY - 4, 0], 1, (4, 3, 12, 8)))
         high = 4 * 2 ** 100
         self.assertEqual(groups_of([high] * 4, 101, rule), [4])
@@ -321,7 +288,7 @@ class GroupsTest(unittest.TestCase):
 
     def test_six_thousand_signs(self):
         signs = some_text(6000, 4336, 2)
-        self.assertEqual(groups_of(signs, 3, Rule(4, 3, 12, 8)), groups_by_words(signs, 3, (4, 3, 12, 8)))
+        self.assertEqual(groups_of(signs, 3, Rule(4, 3, 12, 8)), slowly.groups(signs, 3, (4, 3, 12, 8)))
 
     def test_the_list_handed_in_stays_and_the_list_told_is_new(self):
         rule = Rule(4, 3, 12, 4)

@@ -24,7 +24,20 @@ BAD = (
     ("L17", "# its type\n"), ("L17", "def f(x):\n    return x.mro\n"),
     ("L19", "def f(x):\n    try:\n        x()\n    except TypeError:\n        pass\n"),
     ("L20", "def f(x, y):\n    return x is y\n"), ("L21", "def f(x: int):\n    return 1\n"),
+    ("L15", "from seekpress.bits import laid\ndef f(laid):\n    return 1\n"),
+    ("L15", "class A:\n    pass\ndef f(x):\n    for A in x:\n        pass\n"),
+    ("L18", "def f(x):\n    x[0].long = 1\n"),
+    ("L23", "def f(x):\n    y = range(x)\n"), ("L23", "def f(x):\n    return [y for y in reversed(range(x))]\n"),
+    ("L23", "def f(x):\n    return zip([1], reversed(x))\n"), ("L23", "def f(x):\n    return x.items()\n"),
+    ("L24", "def f(x):\n    y = set(x)\n"), ("L24", "def f(x):\n    return [y for y in set(x)]\n"),
     ("L27", "def f(x):\n    return 2 ** x\n"), ("L27", "X = 'a % b'\n"),
+)
+
+GOOD = (
+    "def f(x):\n    return [a + b for a, b in zip(reversed(x), [1])]\n",
+    "def f(x):\n    return len(set(x)) == 1 and 3 in set(x) and set(x) == set([1]) and sorted(set(x) - set([2]))\n",
+    "def f(x):\n    return list(x.items()) + sorted(range(len(x)), key=lambda at: x[at])\n",
+    "class A:\n    def __init__(self, x):\n        self.x = x\n        x.y = max(range(3))\n",
 )
 
 
@@ -33,6 +46,11 @@ class ReaderTest(unittest.TestCase):
         for rule, source in BAD:
             with self.subTest(rule=rule, source=source[:60]):
                 self.assertIn(rule, [fault[0] for fault in language.faults_of("bad.py", source)])
+
+    def test_it_tells_no_faults_where_there_are_none(self):
+        for source in GOOD:
+            with self.subTest(source=source):
+                self.assertEqual(language.faults_of("good.py", source), [])
 
     def test_it_sees_a_method_that_is_not_listed(self):
         self.assertEqual(language.unknown_methods(["def f(x):\n    x.sort()\n    x.append(1)\n"]), ["sort"])

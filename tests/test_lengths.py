@@ -3,6 +3,7 @@ import random
 import unittest
 from fractions import Fraction
 
+import slowly
 from seekpress.lengths import lengths_of, merges_of
 
 THIRTY = 10 ** 30 - 1
@@ -21,22 +22,6 @@ def some_counts():
             symbols = sorted(source.sample(range(3 * many), many))
             found.append([(symbol, source.randrange(1, top + 1)) for symbol in symbols])
     return found + [counted([1, 1, 2, 3, 5, 8, 13, 21, 34, 55]), counted([2 ** at for at in range(50)])]
-
-
-# As the document words it: each thing is its count, when it came, and the symbols within.
-def slow_merging(counts):
-    things = [(count, came, [symbol]) for came, (symbol, count) in enumerate(counts)]
-    sums, came, depths = [], len(counts), {symbol: 0 for symbol, count in counts}
-    while len(things) > 1:
-        pair = sorted(things, key=lambda thing: thing[:2])[:2]
-        things = [thing for thing in things if thing not in pair]
-        within = pair[0][2] + pair[1][2]
-        things.append((pair[0][0] + pair[1][0], came, within))
-        sums.append(things[-1][0])
-        came += 1
-        for symbol in within:
-            depths[symbol] += 1
-    return sums, [(symbol, depths[symbol] or 1) for symbol, count in counts]
 
 
 def summed(counts, lengths):
@@ -97,14 +82,14 @@ class MergesTest(unittest.TestCase):
     def test_against_a_slow_merging(self):
         for counts in some_counts():
             with self.subTest(counts=counts):
-                sums, lengths = slow_merging(counts)
+                sums, lengths = slowly.merging(counts)
                 self.assertEqual(merges_of(counts), sums)
                 self.assertEqual(lengths_of(counts), lengths)
 
     def test_all_small_counts_against_a_slow_merging(self):
         for many in range(1, 6):
             for counts in itertools.product((1, 2, 3, 4), repeat=many):
-                sums, lengths = slow_merging(counted(counts))
+                sums, lengths = slowly.merging(counted(counts))
                 self.assertEqual(merges_of(counted(counts)), sums)
                 self.assertEqual(lengths_of(counted(counts)), lengths)
 

@@ -1,6 +1,7 @@
 import random
 import unittest
 
+import slowly
 from making import some_text
 from seekpress.errors import NoRepeat
 from seekpress.repeats import laid_out, tokens_of
@@ -11,35 +12,6 @@ FORTY = 10 ** 40 - 1
 def some_texts():
     texts = [some_text(many, below, seed) for many in range(91) for below in (2, 3, 6, 256) for seed in range(2)]
     return texts + [[9] * 90, [1, 2] * 45, [1, 2, 3] * 30, list(range(90)), [1] * 30 + [2] + [1] * 59]
-
-
-def is_true_repeat(text, at, back, long):
-    return all(text[at + step] == text[at + step - back] for step in range(long))
-
-
-def slow_tokens(text):
-    tokens, at = [], 0
-    while at < len(text):
-        found = None
-        for long in range(3, len(text) - at + 1):
-            backs = [back for back in range(1, at + 1) if is_true_repeat(text, at, back, long)]
-            if not backs:
-                break
-            found = (backs[0], long)
-        tokens.append(found or text[at])
-        at += found[1] if found else 1
-    return tokens
-
-
-def slow_text(tokens):
-    text = []
-    for token in tokens:
-        if isinstance(token, tuple):
-            for step in range(token[1]):
-                text.append(text[-token[0]])
-        else:
-            text.append(token)
-    return text
 
 
 class TokensTest(unittest.TestCase):
@@ -79,13 +51,13 @@ class TokensTest(unittest.TestCase):
     def test_against_a_slow_search(self):
         for text in some_texts():
             with self.subTest(text=text):
-                self.assertEqual(tokens_of(text), slow_tokens(text))
+                self.assertEqual(tokens_of(text), slowly.tokens(text))
 
     def test_all_texts_of_two_marks_up_to_nine(self):
         for many in range(10):
             for number in range(2 ** many):
                 text = [number >> at & 1 for at in range(many)]
-                self.assertEqual(tokens_of(text), slow_tokens(text))
+                self.assertEqual(tokens_of(text), slowly.tokens(text))
 
     def test_tokens_are_marks_and_tuples_of_two(self):
         for text in some_texts():
@@ -99,7 +71,7 @@ class TokensTest(unittest.TestCase):
         self.assertEqual(tokens_of([1] * 3000 + [2] + [1] * 2999), [1, (1, 2999), 2, (3000, 2999)])
         for below in (2, 256):
             text = some_text(6000, below, 4)
-            self.assertEqual(slow_text(tokens_of(text)), text)
+            self.assertEqual(slowly.text_of(tokens_of(text)), text)
 
     def test_the_list_handed_in_stays_and_the_list_told_is_new(self):
         for text in ([], [1, 2], [4] * 9, [1, 2, 3, 9, 1, 2, 3]):
@@ -159,7 +131,7 @@ class LaidOutTest(unittest.TestCase):
                 else:
                     tokens.append(source.randrange(3))
                     many += 1
-            self.assertEqual(laid_out(tokens), slow_text(tokens))
+            self.assertEqual(laid_out(tokens), slowly.text_of(tokens))
 
     def test_up_to_six_thousand_marks(self):
         self.assertEqual(laid_out([3, (1, 5999)]), [3] * 6000)
