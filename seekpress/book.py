@@ -1,6 +1,7 @@
 """The book over a list of blocks, and what is found through it [22, 23]."""
 
 from seekpress.cuts import groups_of
+from seekpress.places import meets
 
 
 def row_above(store, row, level, rule):
@@ -26,22 +27,18 @@ def grown(store, numbers, rule):
     return row[0]
 
 
-def is_met(store, number, begin, a, b):
-    return max(a, begin) < min(b, begin + store.long(number))
-
-
 def met_kids(store, number, begin, a, b):
     met = []
     at = begin
     for kid in store.kids(number):
-        if is_met(store, kid, at, a, b):
+        if meets(at, store.long(kid), a, b):
             met.append((kid, at))
         at += store.long(kid)
     return met
 
 
 def meeting(store, root, a, b):
-    if root is None or not is_met(store, root, 0, a, b):
+    if root is None or not meets(0, store.long(root), a, b):
         return []
     row = [(root, 0)]
     # All of a row are of one level, so the blocks are met in one row.

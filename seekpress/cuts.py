@@ -8,10 +8,13 @@ def sign_of(text):
     return sum([mark * weight for mark, weight in zip(reversed(text), WEIGHTS)])
 
 
+# Asked without the text, as a store tells a block's long and its sign without opening it.
+def closes(long, sign, rule):
+    return long == rule.most() or (long >= rule.least() and sign % rule.part() == 0)
+
+
 def is_closed(text, rule):
-    if len(text) == rule.most():
-        return True
-    return len(text) >= rule.least() and sign_of(text) % rule.part() == 0
+    return closes(len(text), sign_of(text), rule)
 
 
 def block_end(text, begin, rule):

@@ -200,3 +200,111 @@ def opened(data):
     except LookupError:
         return None
     return block if block and pressed(block) == data else None
+
+
+def cuts(text, four):
+    found = [0]
+    for block in blocks(text, four):
+        if closed(block, four):
+            found.append(found[-1] + len(block))
+    return found
+
+
+# Where each block of a text begins and ends.
+def spans(text, four):
+    ends = [0]
+    for block in blocks(text, four):
+        ends.append(ends[-1] + len(block))
+    return list(zip(ends, ends[1:]))
+
+
+def is_cut_or_end(text, place, four):
+    return place == len(text) or place in cuts(text, four)
+
+
+# The first place from b on that is a cut or the end of the old text, and as far from its end one of the new text.
+def joint(old, b, new, four):
+    old_ends, new_ends = set(cuts(old, four)) | {len(old)}, set(cuts(new, four)) | {len(new)}
+    return min(q for q in range(b, len(old) + 1) if q in old_ends and q + len(new) - len(old) in new_ends)
+
+
+def met(text, a, b, four):
+    return [at for at, (begin, end) in enumerate(spans(text, four)) if any(a <= x < b for x in range(begin, end))]
+
+
+# The block, by its place in the row of blocks, in which the last cut ahead of a place is the begin; none at a cut.
+def torn(text, place, four):
+    if place in cuts(text, four):
+        return []
+    last = max(cut for cut in cuts(text, four) if cut < place)
+    return [at for at, (begin, end) in enumerate(spans(text, four)) if begin == last]
+
+
+# What change, pour and part open, as places in the rows of blocks of the old texts.
+def opened_by_change(old, a, b, marks, four):
+    new = old[:a] + marks + old[b:]
+    return torn(old, a, four) + met(old, b, joint(old, b, new, four), four)
+
+
+def opened_by_pour(one, other, four):
+    return torn(one, len(one), four), met(other, 0, joint(other, 0, one + other, four), four)
+
+
+def opened_by_part(text, at, four):
+    across = [] if at == len(text) else torn(text, at, four)
+    return across + met(text, at, joint(text, at, text[at:], four), four)
+
+
+def check(data):
+    return sum(place * byte for place, byte in enumerate([0] + data)) % 16381
+
+
+# Sevens of bits, highest first.
+def wide(number, many):
+    return [number // 128 ** (many - 1 - at) % 128 for at in range(many)]
+
+
+def frame(kind, number, body):
+    data = [kind] + wide(number, 2) + wide(len(body), 2) + body
+    return data + wide(check(data), 2)
+
+
+# The rows of a book, each a list of knots, and each knot a list of places in the row beneath.
+def rows(signs, four):
+    found, level = [], 0
+    while signs and (level == 0 or len(signs) > 1):
+        level += 1
+        row, begin, above = [], 0, []
+        for size in groups(signs, level, four):
+            row.append(list(range(begin, begin + size)))
+            begin += size
+            above.append(signs[begin - 1])
+        found.append(row)
+        signs = above
+    return found
+
+
+# All of a row beneath as tuples (likeness, place of its frame, long), so that like knots are seen by their kids.
+def container(text, four):
+    data, number, row, laid_down = [], 0, [], {}
+    for block in blocks(text, four):
+        if tuple(block) in laid_down:
+            data += frame(129, number, wide(laid_down[tuple(block)][0], 2))
+        else:
+            laid_down[tuple(block)] = (number, len(data))
+            data += frame(128, number, pressed(block))
+        row.append((laid_down[tuple(block)][1], len(block)))
+        number += 1
+    for level, groups_of_row in enumerate(rows([sign(block) for block in blocks(text, four)], four), start=1):
+        above, known = [], {}
+        for group in groups_of_row:
+            kids = tuple(row[place] for place in group)
+            if kids not in known:
+                known[kids] = (len(data), sum(long for place, long in kids))
+                told = [byte for place, long in kids for byte in wide(place, 3) + wide(long, 3)]
+                data += frame(130, number, [level, len(kids)] + told)
+                number += 1
+            above.append(known[kids])
+        row = above
+    root = row[0][0] if row else 0
+    return data + frame(131, number, wide(root, 3) + wide(len(text), 3) + wide(len(data) + 16, 3))
