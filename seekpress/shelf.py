@@ -23,7 +23,7 @@ class Shelf:
         self.fetch = fetch
         # No frame that is sought reaches up to it, so that the end's bytes are not asked for again.
         self.end_place = size - END_SIZE
-        told = read_end(list(fetch(self.end_place, size)), self.end_place, size)
+        told = read_end(fetch(self.end_place, size), self.end_place, size)
         self.root_place = told[0]
         self.whole = told[1]
 
@@ -66,13 +66,13 @@ class Seeking:
     def read(self, place):
         self.refuse_beyond(place, HEAD + CHECK)
         ask = self.fetch
-        # Copies at once: the fetch may keep its lists, and change them by the next asking.
+        # A copy at once: the fetch may keep its list, and change it by the next asking.
         head = list(ask(place, place + HEAD))
         if len(head) < HEAD or not may_be_frame(head) or head[0] not in (BLOCK, KNOT):
             raise Broken(place)
         size = full_size(head)
         self.refuse_beyond(place, size)
         try:
-            return read_opened(head + list(ask(place + HEAD, place + size)), 0)
+            return read_opened(head + ask(place + HEAD, place + size), 0)
         except Broken:
             raise Broken(place) from None

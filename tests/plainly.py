@@ -2,6 +2,7 @@
 
 import random
 
+import slowly
 from making import some_text
 
 NAMES = ("a", "z", "bc", "name", "abcdefgh", "q", "qq", "make")
@@ -113,3 +114,23 @@ def some_deeds(seed, below, most, many):
 
 def done(deed, makes):
     return getattr(makes, deed[0])(*deed[1:])
+
+
+# All numbers in a store that are found from these roots down, rising.
+def reached(store, roots):
+    found, going = set(), list(roots)
+    while going:
+        number = going.pop()
+        if number not in found:
+            found.add(number)
+            going += store.kids(number)
+    return sorted(found)
+
+
+# Texts with their containers, by all rules, of one mark alone, of two and of any.
+def some_containers(sizes, seed):
+    for four in RULES:
+        for below in (1, 2, 256):
+            for many in sizes:
+                text = some_text(many, below, seed)
+                yield text, slowly.container(text, four)

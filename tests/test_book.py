@@ -3,6 +3,7 @@ import unittest
 
 import slowly
 from making import some_text
+from plainly import reached
 from seekpress.book import grown, leaves, meeting
 from seekpress.rule import Rule
 from seekpress.store import Store
@@ -31,25 +32,10 @@ def kept(store, blocks):
     return [store.keep_block(block) for block in blocks]
 
 
-def rows_by_words(signs, four):
-    # Each row as lists of places in the row beneath; a knot's sign is that of its last kid.
-    rows, level = [], 0
-    while level == 0 or len(signs) > 1:
-        level += 1
-        row, begin, above = [], 0, []
-        for size in slowly.groups(signs, level, four):
-            row.append(list(range(begin, begin + size)))
-            begin += size
-            above.append(signs[begin - 1])
-        rows.append(row)
-        signs = above
-    return rows
-
-
 # The numbers that a book over these has, where so many were given ahead, and its knots by numbers.
 def numbered_by_words(numbers, signs, four, given):
     knots, row = {}, list(numbers)
-    for groups in rows_by_words(signs, four):
+    for groups in slowly.rows(signs, four):
         above = []
         for group in groups:
             kids = tuple(row[place] for place in group)
@@ -59,16 +45,6 @@ def numbered_by_words(numbers, signs, four, given):
             above.append(knots[kids])
         row = above
     return row[0], {number: list(kids) for kids, number in knots.items()}
-
-
-def reached(store, root):
-    found, going = set(), [root]
-    while going:
-        number = going.pop()
-        if number not in found:
-            found.add(number)
-            going += store.kids(number)
-    return sorted(found)
 
 
 def named(store, number):
@@ -119,7 +95,7 @@ class GrownTest(unittest.TestCase):
         for four, blocks in some_books():
             store = Store()
             root = grown(store, kept(store, blocks), Rule(*four))
-            self.assertEqual(store.lying(), reached(store, root))
+            self.assertEqual(store.lying(), reached(store, [root]))
             for number in store.lying():
                 self.assertEqual(store.holds(number), named(store, number) + (number == root))
 
@@ -148,7 +124,7 @@ class GrownTest(unittest.TestCase):
             first = grown(store, kept(store, one), Rule(*four))
             alone = store.lying()
             second = grown(store, kept(store, other), Rule(*four))
-            self.assertEqual(store.lying(), sorted(set(reached(store, first) + reached(store, second))))
+            self.assertEqual(store.lying(), reached(store, [first, second]))
             for root, blocks in ((first, one), (second, other)):
                 self.assertEqual([store.marks_of(number) for number in leaves(store, root)], blocks)
             store.let(second)
@@ -283,7 +259,7 @@ class FindingTest(unittest.TestCase):
 
     # Where all blocks are unlike, a knot above a block that meets is one that meets.
     def knots_above(self, root, blocks):
-        return [number for number in reached(self.store, root) if set(leaves(self.store, number)) & set(blocks)]
+        return [number for number in reached(self.store, [root]) if set(leaves(self.store, number)) & set(blocks)]
 
     def test_a_book_far_longer_than_could_be_gone_through(self):
         at = self.store.keep_block([1, 2, 3])

@@ -4,7 +4,7 @@ import unittest
 
 import slowly
 from making import some_text
-from plainly import RULES, Plain, done, some_deeds
+from plainly import RULES, Plain, done, reached, some_deeds
 from seekpress.blocks import opened, pressed
 from seekpress.book import grown
 from seekpress.errors import NoMake, NoName, NoPlace, NoText, PressError, Twice
@@ -49,16 +49,6 @@ def some_makes(four=FOUR):
 def made(four):
     noting = Noting()
     return Makes(Rule(*four), noting), noting
-
-
-def reached(store, roots):
-    found, going = set(), list(roots)
-    while going:
-        number = going.pop()
-        if number not in found:
-            found.add(number)
-            going += store.kids(number)
-    return sorted(found)
 
 
 def state(makes):
@@ -192,12 +182,17 @@ class DeedsTest(unittest.TestCase):
                     with self.subTest(four=four, below=below, deed=deed):
                         yield makes, noting, four, deed, texts
 
-    def test_each_text_is_the_plain_one(self):
+    # Behind each deed, with the plain texts as they are then.
+    def behind_each_deed(self):
         for makes, noting, four, deed, texts in self.each_deed():
             plain = Plain()
             plain.texts = texts
             done(deed, makes)
             done(deed, plain)
+            yield makes, four, plain
+
+    def test_each_text_is_the_plain_one(self):
+        for makes, four, plain in self.behind_each_deed():
             self.assertEqual(makes.names(), sorted(plain.texts))
             for name, text in plain.texts.items():
                 self.assertEqual(makes.text(name), text)
@@ -206,11 +201,7 @@ class DeedsTest(unittest.TestCase):
                 self.assertEqual([makes.store().bytes_of(number) for number in makes.blocks(name)], found)
 
     def test_each_book_is_the_one_made_anew_and_nothing_else_is_held(self):
-        for makes, noting, four, deed, texts in self.each_deed():
-            plain = Plain()
-            plain.texts = texts
-            done(deed, makes)
-            done(deed, plain)
+        for makes, four, plain in self.behind_each_deed():
             store = makes.store()
             before = state(makes)
             roots = [makes.root(name) for name in makes.names()]

@@ -5,7 +5,7 @@ import unittest
 import reading
 import slowly
 from making import some_text
-from plainly import RULES, done, some_deeds
+from plainly import RULES, done, some_containers, some_deeds
 from seekpress.container import container
 from seekpress.errors import Broken, NoPlace
 from seekpress.makes import Makes
@@ -13,6 +13,7 @@ from seekpress.rule import Rule
 from seekpress.shelf import Shelf
 
 FOUR = (4, 3, 12, 4)
+SIZES = (0, 1, 3, 12, 40)
 
 
 class Fetch:
@@ -40,17 +41,9 @@ def askings(data, a, b):
     return [pair for place in places for pair in ((place, place + 5), (place + 5, ends[place]))]
 
 
-def some_containers():
-    for four in RULES:
-        for below in (1, 2, 256):
-            for many in (0, 1, 3, 12, 40):
-                text = some_text(many, below, 7)
-                yield text, slowly.container(text, four)
-
-
 class SoughtTest(unittest.TestCase):
     def test_each_stretch_and_the_bytes_that_are_asked_for(self):
-        for text, data in some_containers():
+        for text, data in some_containers(SIZES, 7):
             shelf, fetch = shelf_of(data)
             self.assertEqual(shelf.long(), len(text))
             for a in range(len(text) + 1):
@@ -80,13 +73,13 @@ class SoughtTest(unittest.TestCase):
             done(deed, makes)
 
     def test_at_its_making_it_asks_for_the_end_alone(self):
-        for text, data in some_containers():
+        for text, data in some_containers(SIZES, 7):
             fetch = Fetch(data)
             Shelf(len(data), fetch)
             self.assertEqual(fetch.asked, [(len(data) - 16, len(data))])
 
     def test_a_stretch_without_marks_asks_for_nothing(self):
-        for text, data in some_containers():
+        for text, data in some_containers(SIZES, 7):
             shelf, fetch = shelf_of(data)
             fetch.data = []
             for a in range(len(text) + 1):
@@ -302,6 +295,24 @@ class BrokenTest(unittest.TestCase):
         self.refused(reading.reframed(data, root[0], body=body), 0, 12, 0)
         told = slowly.wide(0, 3) + slowly.wide(3, 3) + slowly.wide(len(data), 3)
         self.refused(reading.reframed(data, len(data) - 16, body=told), 0, 3, 0)
+
+    def test_behind_a_head_that_is_none_no_rest_is_asked_for(self):
+        data = slowly.container([0] * 6, FOUR)
+        root = reading.end(data)[0]
+        for at, byte in ((0, 0), (0, 127), (0, 129), (0, 131), (0, 132), (1, 128), (2, 255), (3, 128), (4, 200)):
+            shelf, fetch = shelf_of(data[:root + at] + [byte] + data[root + at + 1:])
+            with self.assertRaises(Broken):
+                shelf.stretch(0, 6)
+            self.assertEqual(fetch.asked, [(root, root + 5)])
+
+    def test_bytes_that_lack(self):
+        data = slowly.container([0] * 6, FOUR)
+        root = reading.end(data)[0]
+        for most in (0, 1, 4, 5, 9):
+            shelf = Shelf(len(data), lambda a, b: data[a:b] if a >= len(data) - 16 else data[a:min(b, root + most)])
+            with self.assertRaises(Broken) as caught:
+                shelf.stretch(0, 6)
+            self.assertEqual(caught.exception.place, root)
 
     def test_kids_without_marks_are_not_fetched(self):
         block = slowly.frame(128, 0, slowly.pressed([1, 2]))
