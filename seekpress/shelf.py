@@ -72,7 +72,8 @@ class Seeking:
             raise Broken(place)
         size = full_size(head)
         self.refuse_beyond(place, size)
+        data = head + ask(place + HEAD, place + size)
         try:
-            return read_opened(head + ask(place + HEAD, place + size), 0)
+            return read_opened(data, 0)
         except Broken:
             raise Broken(place) from None

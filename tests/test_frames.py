@@ -101,6 +101,7 @@ class ReadTest(unittest.TestCase):
         self.refused([128], 1)
         self.refused(slowly.frame(AGAIN, 0, [0, 0]), 9)
         self.refused(slowly.frame(AGAIN, 0, [0, 0]), 100)
+        self.refused(slowly.frame(AGAIN, 0, [0, 0]), 10 ** 39)
 
     def test_a_byte_that_is_no_low_one(self):
         # With the check that such bytes would have.

@@ -56,6 +56,8 @@ def state(makes):
     return (
         [(name, makes.root(name), makes.blocks(name), makes.long(name)) for name in makes.names()],
         [(number, store.holds(number), store.kids(number)) for number in store.lying()],
+        # The texts, without opening them.
+        [[store.bytes_of(number) for number in makes.blocks(name)] for name in makes.names()],
     )
 
 
